@@ -1,0 +1,1 @@
+"""Sidechain: two hands that join the sides of a board."""
