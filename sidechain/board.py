@@ -77,3 +77,9 @@ def mirrored(board):
             if hand != 0:
                 turned.put((column, row), other_hand(hand))
     return turned
+
+
+def copied(board):
+    same = Board(board.rows(), board.columns())
+    same.owners = dict(board.owners)
+    return same

@@ -4,12 +4,35 @@ Nothing here asks the program for neighbours or sides: a fault of the program
 must not hide itself in the tests.
 """
 
+import unittest
 from itertools import product
 
 from sidechain.board import Board
 
 STEPS = ((-1, 0), (-1, 1), (0, -1), (0, 1), (1, -1), (1, 0))
 FAR = 10 ** 5000
+NO_HANDS = (0, 3, -1, -2, 4, 12, 100, FAR, -FAR)
+# Hand 1 winds from side to side through every second column.
+WINDING = (
+    "1.111.111.",
+    "1.1.1.1.1.",
+    "1.1.1.1.1.",
+    "1.1.1.1.1.",
+    "1.1.1.1.1.",
+    "1.1.1.1.1.",
+    "1.1.1.1.1.",
+    "1.1.1.1.1.",
+    "1.1.1.1.1.",
+    "111.111.11",
+)
+
+
+class BoardCase(unittest.TestCase):
+    def refused(self, error, call, *arguments):
+        """The call raises just this class of refusal."""
+        with self.assertRaises(error) as caught:
+            call(*arguments)
+        self.assertIs(type(caught.exception), error)
 
 
 def board_of(*lines):
@@ -19,6 +42,22 @@ def board_of(*lines):
             if sign != ".":
                 board.put((row, column), int(sign))
     return board
+
+
+class LockedBoard(Board):
+    """A board that no one may change any more, not even for a while."""
+
+    def __init__(self, board):
+        Board.__init__(self, board.rows(), board.columns())
+        for cell, owner in owners_of(board).items():
+            if owner != 0:
+                Board.put(self, cell, owner)
+
+    def put(self, cell, hand):
+        raise AssertionError("put on a board that was handed in")
+
+    def lift(self, cell):
+        raise AssertionError("lift on a board that was handed in")
 
 
 def cells_of(board):
@@ -63,9 +102,6 @@ def pairs_off(rows, columns):
     return off
 
 
-NO_HANDS = (0, 3, -1, -2, 4, 12, 100, FAR, -FAR)
-
-
 def on_first(board, hand, cell):
     return cell[2 - hand] == 0
 
@@ -85,8 +121,13 @@ def has_joined(board, hand):
     return any(on_last(board, hand, cell) for cell in flood)
 
 
-def faults_of_chain(board, hand, cells):
-    """What keeps the cells from being a chain of the hand's own: point [3], word by word."""
+def faults_of_chain(board, hand, cells, empty_too=False):
+    """What keeps the cells from being a chain of the hand: point [3], word by word.
+
+    Its cells have to be the hand's own or, where empty ones may be in it too,
+    its own or empty.
+    """
+    owners = (hand, 0) if empty_too else (hand,)
     if type(cells) is not list:
         return ["no list"]
     if not cells:
@@ -95,7 +136,7 @@ def faults_of_chain(board, hand, cells):
     for cell in cells:
         if type(cell) is not tuple or cell not in cells_of(board):
             return [f"{cell} is no cell"]
-        if board.owner(cell) != hand:
+        if board.owner(cell) not in owners:
             faults.append(f"{cell} is not the hand's")
     if len(set(cells)) != len(cells):
         faults.append("two cells alike")

@@ -2,17 +2,9 @@ import unittest
 
 from sidechain.board import Board, mirrored
 from sidechain.errors import CellEmpty, CellTaken, NoBoard, NoCell, NoHand
-from tests.boards import FAR, NO_HANDS, board_of, cells_of, every_board, owners_of, pairs_off
+from tests.boards import BoardCase, FAR, NO_HANDS, board_of, cells_of, every_board, owners_of, pairs_off
 
 SIZES = ((1, 1), (1, 10), (10, 1), (2, 3), (3, 2), (4, 7), (10, 10))
-
-
-class BoardCase(unittest.TestCase):
-    def refused(self, error, call, *arguments):
-        """The call raises just this class of refusal."""
-        with self.assertRaises(error) as caught:
-            call(*arguments)
-        self.assertIs(type(caught.exception), error)
 
 
 class Sizes(BoardCase):

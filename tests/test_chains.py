@@ -4,22 +4,9 @@ from sidechain.board import Board, mirrored
 from sidechain.chains import chain, winner
 from sidechain.errors import NoHand
 from tests.boards import (
-    NO_HANDS, board_of, every_board, faults_of_chain, has_joined, mixed_boards, owners_of,
+    NO_HANDS, WINDING, board_of, every_board, faults_of_chain, has_joined, mixed_boards, owners_of,
 )
 
-# Hand 1 winds from side to side through every second column.
-WINDING = (
-    "1.111.111.",
-    "1.1.1.1.1.",
-    "1.1.1.1.1.",
-    "1.1.1.1.1.",
-    "1.1.1.1.1.",
-    "1.1.1.1.1.",
-    "1.1.1.1.1.",
-    "1.1.1.1.1.",
-    "1.1.1.1.1.",
-    "111.111.11",
-)
 SMALL = ((1, 1), (1, 2), (2, 1), (1, 5), (5, 1), (2, 2), (2, 3), (3, 2), (2, 4), (4, 2), (3, 3))
 
 
